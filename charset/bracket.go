@@ -73,11 +73,7 @@ func class(b []byte, at int) (s api.Set, next int, e error) {
 	if !ok {
 		return api.Set{}, 0, fault(at, api.ErrName)
 	}
-	next = begin + size + len(classCloses)
-	if rangeGoesOn(b, next) { // a class may no more begin a range than end one
-		return api.Set{}, 0, fault(at, api.ErrForm)
-	}
-	return s, next, nil
+	return s, begin + size + len(classCloses), nil // a - there is the next member, or begins it: a class begins no range
 }
 
 // letter is the byte that the byte or the escape at a place stands for, and the place behind it.
@@ -91,7 +87,7 @@ func letter(b []byte, at int) (c byte, next int, e error) {
 	return 0, 0, fault(len(b), api.ErrEnd)
 }
 
-// rangeGoesOn tells whether what stands ahead of a place is a range's beginning: a - just ahead of the ] is a byte.
+// rangeGoesOn tells whether the byte or the escape ahead of a place is a range's beginning: a - just ahead of the ] is a byte.
 func rangeGoesOn(b []byte, at int) bool {
 	return is(b, at, '-') && at+1 < len(b) && b[at+1] != ']'
 }

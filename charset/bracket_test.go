@@ -121,6 +121,10 @@ func TestP32Classes(t *testing.T) {
 		hold(t, "[[:"+name+":]]", right(whole, n+6))
 		hold(t, "[^[:"+name+":]]]", others(whole, n+7))
 		hold(t, "[\xfe[:"+name+":]-]", right(whole+"\xfe-", n+8))
+		hold(t, "[[:"+name+":]-\xfe]", right(whole+"\xfe-", n+8))
+		hold(t, "[^[:"+name+":]-[:"+name+":]]", others(whole+"-", 2*n+12))
+		hold(t, "[[:"+name+":]", wrong(api.ErrEnd, n+5))
+		hold(t, "[[:"+name+":]-\xfe", wrong(api.ErrEnd, n+7))
 		hold(t, "[["+name+":]]", right("["+name+":", n+4)) // no [:, so that the first ] closes it
 		hold(t, "[:"+name+":]]", right(":"+name, n+4))
 	}
@@ -190,6 +194,43 @@ func TestP32Minus(t *testing.T) {
 		{"[-[:digit:]]", right("0123456789-", 12)},
 		{"[%--[:digit:]]", right("0123456789%&'()*+,-", 14)},
 	})
+}
+
+// TestP32ClassMinus: a class is a member of its own; a - behind it is the next one, or begins a range of its own.
+func TestP32ClassMinus(t *testing.T) {
+	const digits = "0123456789"
+	holdAll(t, []bracketCase{
+		{"[[:digit:]-z]", right(digits+"-z", 13)},
+		{"[x[:digit:]-z]", right(digits+"x-z", 14)},
+		{"[][:digit:]-a]", right(digits+"]-a", 14)},
+		{"[^[:digit:]-z]", others(digits+"-z", 14)},
+		{"[a-c[:digit:]-z]", right(digits+"abc-z", 16)},
+		{"[[:upper:][:digit:]-z]", right(classBytes("upper")+digits+"-z", 22)},
+		{"[[:digit:]-0]", right(digits+"-", 13)},
+		{"[[:digit:]-\x00]", right(digits+"-\x00", 13)},
+		{"[[:digit:]-\\]]", right(digits+"-]", 14)},
+		{"[[:digit:]\\-z]", right(digits+"-z", 14)},
+		{"[[:digit:]-[:digit:]]", right(digits+"-", 21)},
+		{"[[:digit:]-[:alpha:]]", right(digits+"-"+classBytes("alpha"), 21)},
+		{"[[:digit:]-[:alpha:]-]", right(digits+"-"+classBytes("alpha"), 22)},
+		{"[[:digit:]-[]", right(digits+"-[", 13)},
+		{"[[:digit:]-a-c]", right(digits+"-abc", 15)},
+		{"[[:digit:]--]", right(digits+"-", 13)},
+		{"[[:digit:]---]", right(digits+"-", 14)},
+		{"[[:digit:]--/]", right(digits+"-./", 14)},
+		{"[^[:digit:]--/]", others(digits+"-./", 15)},
+		{"[[:digit:]--\\/]", right(digits+"-./", 15)},
+		{"[[:digit:]--/-]", right(digits+"-./", 15)},
+		{"[[:digit:]+--]", right(digits+"+,-", 14)},
+		{"[[:digit:]--+]", wrong(api.ErrForm, 10)},
+		{"[[:digit:]--[:alpha:]]", wrong(api.ErrForm, 10)},
+		{"[[:digit:]--[:", wrong(api.ErrForm, 10)},
+		{"[[:digit:]-c-a]", wrong(api.ErrForm, 11)},
+		{"[[:digit:]-[:nope:]]", wrong(api.ErrName, 11)},
+	})
+	if got := bracket(t, []byte("\x00\x00[[:digit:]-\x00"), 2); got != wrong(api.ErrEnd, 14) {
+		t.Errorf("an end behind a class: %v", got)
+	}
 }
 
 func TestP32Escapes(t *testing.T) {
@@ -267,7 +308,7 @@ func TestP32Ends(t *testing.T) {
 		"[", "[^", "[a", "[^a", "[ab", "[]", "[^]", "[]a", "[a-", "[^a-", "[]-", "[^]-", "[-", "[--", "[---", "[+--", "[a-c", "[a-c-", "[a^", "[^^",
 		"[\\", "[^\\", "[a\\", "[a-\\", "[z-\\", "[\\]", "[^\\]", "[\\\\", "[\\n-", "[\\n-\\", "[A-\\]",
 		"[[", "[^[", "[a[", "[[:", "[^[:", "[[:]", "[[:]]", "[[:a", "[[:digit", "[[:digit:", "[[:digit]", "[[:digit]]", "[[:nope", "[[:nope:", "[[:digit: ]]", "[[:-a]", "[[:\\:", "[x[:", "[a-c[:digit:",
-		"[[:digit:]", "[^[:digit:]", "[[:digit:]a", "[[:digit:]-", "[[:digit:][:", "[[:digit:][:alpha:]", "[A-[", "[[-",
+		"[[:digit:]", "[^[:digit:]", "[[:digit:]a", "[[:digit:]-", "[[:digit:]-z", "[[:digit:]-\x00", "[[:digit:]-\\", "[[:digit:]-[:", "[[:digit:]--", "[[:digit:]--z", "[[:digit:][:", "[[:digit:][:alpha:]", "[A-[", "[[-",
 	} {
 		hold(t, s, wrong(api.ErrEnd, len(s)))
 		ahead := "[x]\\"
@@ -332,20 +373,11 @@ func TestP32Ranges(t *testing.T) {
 		{"[A-[:]", wrong(api.ErrForm, 1)},
 		{"[A-[:x]", wrong(api.ErrForm, 1)},
 		{"[A-[:", wrong(api.ErrForm, 1)},
-		// It begins none, either.
-		{"[[:digit:]-z]", wrong(api.ErrForm, 1)},
-		{"[x[:digit:]-z]", wrong(api.ErrForm, 2)},
-		{"[^[:digit:]-z]", wrong(api.ErrForm, 2)},
-		{"[[:upper:][:digit:]-z]", wrong(api.ErrForm, 10)},
-		{"[[:digit:]-[:alpha:]]", wrong(api.ErrForm, 1)},
-		{"[[:digit:]--]", wrong(api.ErrForm, 1)},
-		{"[[:digit:]-\\]]", wrong(api.ErrForm, 1)},
 		// The first that is met from the left is told, not what is wrong behind it.
 		{"[c-a", wrong(api.ErrForm, 1)},
 		{"[c-a\\", wrong(api.ErrForm, 1)},
 		{"[c-a[:nope:]]", wrong(api.ErrForm, 1)},
 		{"[c-af-d]", wrong(api.ErrForm, 1)},
-		{"[[:digit:]-z", wrong(api.ErrForm, 1)},
 	})
 }
 
@@ -420,8 +452,6 @@ func wantedMember(s string) (in string, size int, e api.Errno) {
 			return "", 0, api.ErrEnd
 		case classes()[name] == nil:
 			return "", 0, api.ErrName
-		case len(behind) > 1 && behind[0] == '-' && behind[1] != ']':
-			return "", 0, api.ErrForm
 		}
 		return classBytes(name), len(s) - len(behind), 0
 	}
